@@ -69,5 +69,9 @@ func intWord(n int) string {
 // floatWord tells the bits of a number: by them it comes back as it was, the
 // sign of a zero too.
 func floatWord(x float32) string {
-	return strconv.FormatUint(uint64(math.Float32bits(x)), 16)
+	return bitsWord(uint64(math.Float32bits(x)))
+}
+
+func bitsWord(bits uint64) string {
+	return strconv.FormatUint(bits, 16)
 }

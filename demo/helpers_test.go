@@ -80,14 +80,11 @@ func record(t *testing.T, r *demo.Recorder, l []api.Command) (api.World, api.Err
 	if !slices.EqualFunc(room, before, sameCommand) {
 		t.Fatalf("Record: the commands handed in are %+v, were %+v", room, before)
 	}
-	got := api.World{Tick: answer.Tick, Entities: slices.Clone(answer.Entities)}
+	got := copyOf(answer)
 	for i := range room {
 		room[i] = leave(i % 32)
 	}
-	spare := answer.Entities[:cap(answer.Entities)]
-	for i := range spare {
-		spare[i] = api.Entity{ID: -99, Team: -99, X: nan, Y: nan, VX: nan, VY: nan, Health: -99}
-	}
+	spoil(answer)
 	return got, e
 }
 

@@ -194,16 +194,13 @@ func TestAnswersAreNewMemory(t *testing.T) {
 			t.Fatalf("Record: %d", e)
 		}
 		answers = append(answers, w)
-		copies = append(copies, api.World{Tick: w.Tick, Entities: slices.Clone(w.Entities)})
+		copies = append(copies, copyOf(w))
 	}
 	for i, w := range answers {
 		if !sameWorld(w, copies[i]) {
 			t.Fatalf("the answer of tick %d is %+v, was %+v", copies[i].Tick, w, copies[i])
 		}
-		spare := w.Entities[:cap(w.Entities)]
-		for j := range spare {
-			spare[j] = api.Entity{ID: -1}
-		}
+		spoil(w)
 	}
 }
 
